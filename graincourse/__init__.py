@@ -1,0 +1,1 @@
+"""Graincourse: rules for dividing a whole, and the shares that they guarantee."""

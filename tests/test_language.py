@@ -1,0 +1,206 @@
+"""What a machine can see of the rules in LANGUAGE.md, for the files of the package.
+
+It sees only a part of them: a file that passes here still has to be read
+against the rules.
+"""
+
+import ast
+import builtins
+import re
+import unittest
+from pathlib import Path
+
+PACKAGE = Path(__file__).resolve().parent.parent / "graincourse"
+
+BUILTINS = set("""
+    len range enumerate zip min max sum abs sorted reversed int str bool bytes list tuple dict set isinstance ord repr
+    any all divmod iter next Exception ValueError TypeError KeyError IndexError LookupError ZeroDivisionError
+    ArithmeticError OverflowError RuntimeError NotImplementedError AttributeError StopIteration NotImplemented
+    property staticmethod classmethod super
+""".split())
+METHODS = set("""
+    append clear copy count endswith extend find get index insert isalnum isalpha isdigit islower isspace isupper items
+    join keys ljust lower lstrip partition pop remove replace reverse rfind rjust rpartition rsplit rstrip setdefault
+    split splitlines startswith strip update upper values zfill bit_length capitalize swapcase casefold expandtabs
+    removeprefix removesuffix rindex isascii isdecimal isnumeric istitle isidentifier isprintable sort add discard
+""".split())
+BARRED_NAMES = set("""
+    register mro elements open input law version_info with_traceback add_note attrgetter breakpoint builtins compile
+    copyright credits delattr dir eval exec exit gc getattr globals hasattr help id importlib license locals
+    methodcaller os quit setattr type vars sys
+""".split())
+BARRED_WORDS = re.compile(
+    r"\b(type|typing|typing_extensions|enum|Enum|IntEnum|StrEnum|Flag|IntFlag|Generic|Protocol|ABC|ABCMeta|namedtuple"
+    r"|NamedTuple|TypedDict|TYPE_CHECKING|abstractmethod)\b|dataclass|overload|contextmanager")
+BARRED_NODES = (
+    ast.Global, ast.AsyncFunctionDef, ast.AsyncFor, ast.AsyncWith, ast.Await, ast.Import, ast.Div, ast.MatMult,
+    ast.MatchClass, ast.MatchMapping, ast.TryStar)
+DUNDER = re.compile(r"__[a-z]+__")
+
+INTERFACE = {
+    "errors": [
+        "GrainError", "MissingError", "InvalidFraction()", "InvalidStatement(place)", "TooLarge(limit)",
+        "UnknownPlayer(player)", "DuplicatePiece(name)", "InvalidWeights()", "InvalidWorths()", "InvalidAnswer()",
+        "BrokenRule(player)", "NothingExpected()", "NothingLeft()", "ParseError(place)", "InvalidName(name)",
+        "InUse(name)", "Cycle(name)", "Unfit(name)", "InvalidCommand(index)", "InvalidDocument(row)",
+        "UnknownPiece(name)", "UnknownName(name)"],
+    "ratios": [
+        "reduced(numerator, denominator)", "is_fraction(value)", "plus(*parts)", "times(*parts)", "total(parts)",
+        "negative(part)", "order(one, other)", "ratio_text(part)", "parse_ratio(text)"],
+    "statements": [
+        "MOST_PLAYERS", "MOST_STATEMENTS", "MOST_BRANCHES", "MOST_PIECES", "is_piece(text)", "is_plain(text)",
+        "ways_through(statements)"],
+}
+
+
+def files():
+    return sorted(path for path in PACKAGE.rglob("*") if path.is_file() and path.suffix != ".pyc")
+
+
+def trees():
+    return [(path.name, ast.parse(path.read_text())) for path in files()]
+
+
+def nodes(*kinds):
+    return [(name, node) for name, tree in trees() for node in ast.walk(tree) if isinstance(node, kinds)]
+
+
+def defined(tree):
+    """The names that the statements at module level define, imports left out."""
+    names = {}
+    for node in tree.body:
+        if isinstance(node, (ast.FunctionDef, ast.ClassDef)):
+            names[node.name] = node
+        elif isinstance(node, ast.Assign):
+            names[node.targets[0].id] = node
+    return names
+
+
+def bound(tree):
+    """All names that a file gives a meaning to."""
+    names = set()
+    for node in ast.walk(tree):
+        if isinstance(node, (ast.FunctionDef, ast.ClassDef)):
+            names.add(node.name)
+        elif isinstance(node, ast.arg):
+            names.add(node.arg)
+        elif isinstance(node, ast.Name) and not isinstance(node.ctx, ast.Load):
+            names.add(node.id)
+        elif isinstance(node, ast.ImportFrom):
+            names.update(alias.asname or alias.name for alias in node.names)
+        elif isinstance(node, (ast.ExceptHandler, ast.MatchAs, ast.MatchStar)) and node.name:
+            names.add(node.name)
+    return names
+
+
+def methods(tree):
+    classes = [node for node in ast.walk(tree) if isinstance(node, ast.ClassDef)]
+    return {item.name for node in classes for item in node.body if isinstance(item, ast.FunctionDef)}
+
+
+def head(node):
+    """A definition as the interface writes it, with the parameters of a class's own __init__."""
+    if isinstance(node, ast.ClassDef):
+        first = [item for item in node.body if isinstance(item, ast.FunctionDef) and item.name == "__init__"][0]
+        return f"{node.name}({', '.join(ast.unparse(first.args).split(', ')[1:])})"
+    if isinstance(node, ast.FunctionDef):
+        return f"{node.name}({ast.unparse(node.args)})"
+    return node.targets[0].id
+
+
+class FilesTest(unittest.TestCase):
+    def test_names_of_files(self):
+        for path in files():
+            self.assertRegex(path.relative_to(PACKAGE).as_posix(), r"^([a-z][a-z0-9_]*|__init__|__main__)\.py$")
+
+    def test_sizes_and_characters(self):
+        for path in files():
+            text = path.read_text()
+            self.assertLessEqual(len(text.splitlines()), 399, path)
+            for line in text.split("\n"):
+                self.assertLessEqual(len(line), 120, (path, line))
+                self.assertRegex(line, "^[ -~]*$", path)
+
+    def test_sizes_of_functions(self):
+        for name, node in nodes(ast.FunctionDef):
+            self.assertLessEqual(node.end_lineno - node.lineno + 1, 40, (name, node.name))
+
+    def test_barred_words(self):
+        for path in files():
+            self.assertIsNone(BARRED_WORDS.search(path.read_text()), path)
+
+
+class NamesTest(unittest.TestCase):
+    def test_plain_names(self):
+        for name, tree in trees():
+            for word in bound(tree):
+                self.assertTrue(DUNDER.fullmatch(word) or not word.startswith("_"), (name, word))
+                self.assertNotIn(word, BARRED_NAMES | BUILTINS, name)
+            for word in bound(tree) - methods(tree):
+                self.assertNotIn(word, dir(builtins), name)
+
+    def test_names_that_are_read_are_known(self):
+        for name, tree in trees():
+            known = bound(tree) | BUILTINS
+            for node in ast.walk(tree):
+                if isinstance(node, ast.Name):
+                    self.assertIn(node.id, known, name)
+
+    def test_attributes_are_known(self):
+        own = {node.attr for _, node in nodes(ast.Attribute) if isinstance(node.ctx, ast.Store)}
+        own |= {node.name for _, node in nodes(ast.FunctionDef)}
+        for name, node in nodes(ast.Attribute):
+            self.assertIn(node.attr, own | METHODS, name)
+
+    def test_imports(self):
+        there = {name: defined(tree) for name, tree in trees()}
+        for name, node in nodes(ast.ImportFrom):
+            self.assertEqual(node.level, 0, name)
+            folder, _, source = node.module.partition(".")
+            self.assertEqual(folder, "graincourse", name)
+            for alias in node.names:
+                self.assertIn(alias.name, there[source + ".py"], name)
+
+    def test_interface(self):
+        there = {name: defined(tree) for name, tree in trees()}
+        for module, entries in INTERFACE.items():
+            for entry in entries:
+                node = there[module + ".py"][entry.partition("(")[0]]
+                shown = head(node) if "(" in entry else entry
+                self.assertEqual(shown, entry, module)
+
+
+class StatementsTest(unittest.TestCase):
+    def test_barred_nodes(self):
+        for name, node in nodes(*BARRED_NODES):
+            self.fail((name, ast.unparse(node)))
+
+    def test_module_level(self):
+        for name, tree in trees():
+            for node in tree.body:
+                plain = isinstance(node, (ast.FunctionDef, ast.ClassDef, ast.ImportFrom))
+                text = isinstance(node, ast.Expr) and isinstance(node.value, ast.Constant)
+                value = isinstance(node, ast.Assign) and len(node.targets) == 1
+                self.assertTrue(plain or text or value, (name, ast.unparse(node)))
+
+    def test_values(self):
+        for name, node in nodes(ast.Constant):
+            self.assertNotIsInstance(node.value, (float, complex), name)
+            if isinstance(node.value, str):
+                self.assertNotIn("%", node.value, name)
+
+    def test_powers(self):
+        for name, node in nodes(ast.BinOp):
+            if isinstance(node.op, ast.Pow):
+                self.assertIsInstance(node.right, ast.Constant, name)
+                self.assertIn(node.right.value, range(65), name)
+
+    def test_is(self):
+        for name, node in nodes(ast.Compare):
+            for sign, value in zip(node.ops, node.comparators):
+                if isinstance(sign, (ast.Is, ast.IsNot)):
+                    self.assertIn(ast.unparse(value), ("None", "True", "False"), name)
+
+
+if __name__ == "__main__":
+    unittest.main()
