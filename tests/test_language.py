@@ -50,7 +50,18 @@ INTERFACE = {
     "statements": [
         "MOST_PLAYERS", "MOST_STATEMENTS", "MOST_BRANCHES", "MOST_PIECES", "is_piece(text)", "is_plain(text)",
         "ways_through(statements)"],
+    "branches": [
+        "Branch", "Branch.links(self)", "Branch.holders(self)", "Branch.equations(self, player, known=())",
+        "Branch.comparisons(self, player)", "Branch.weighted(self, weights)"],
+    "schemes": [
+        "Scheme(players, statements)", "Scheme.PLAYERS", "Scheme.STATEMENTS", "Scheme.BRANCHES", "Scheme.PIECES",
+        "Scheme.read(cls, text)", "Scheme.statements(self)", "Scheme.text(self)", "Scheme.branches(self)",
+        "Scheme.__len__(self)", "Scheme.__eq__(self, other)", "Scheme.__repr__(self)", "own_weights(scheme, player)",
+        "lead_weights(scheme, one, other)"],
+    "tableau": ["least(equations, comparisons, weights)"],
 }
+# These take a list instead of a generator where a class has an __eq__ of its own.
+LISTED = ("all", "any", "max", "min", "sorted", "sum")
 
 
 def files():
@@ -66,7 +77,7 @@ def nodes(*kinds):
 
 
 def defined(tree):
-    """The names that the statements at module level define, imports left out."""
+    """The names that the statements of a file or a class define, imports left out."""
     names = {}
     for node in tree.body:
         if isinstance(node, (ast.FunctionDef, ast.ClassDef)):
@@ -96,6 +107,31 @@ def bound(tree):
 def methods(tree):
     classes = [node for node in ast.walk(tree) if isinstance(node, ast.ClassDef)]
     return {item.name for node in classes for item in node.body if isinstance(item, ast.FunctionDef)}
+
+
+def find(tree, entry):
+    """The definition that an entry of the interface names, of a method in the class itself."""
+    for name in entry.partition("(")[0].split("."):
+        tree = defined(tree)[name]
+    return tree
+
+
+def shown(node, entry):
+    """A definition as the interface writes it, without its class."""
+    return head(node) if "(" in entry else node.targets[0].id if isinstance(node, ast.Assign) else node.name
+
+
+def stored(tree):
+    """The names of the attributes that a file assigns."""
+    return {node.attr for node in ast.walk(tree)
+            if isinstance(node, ast.Attribute) and isinstance(node.ctx, ast.Store)}
+
+
+def locals_of(function):
+    """The names of the parameters and local variables of a function."""
+    names = {node.arg for node in ast.walk(function) if isinstance(node, ast.arg)}
+    return names | {node.id for node in ast.walk(function)
+                    if isinstance(node, ast.Name) and isinstance(node.ctx, ast.Store)}
 
 
 def head(node):
@@ -162,12 +198,34 @@ class NamesTest(unittest.TestCase):
                 self.assertIn(alias.name, there[source + ".py"], name)
 
     def test_interface(self):
-        there = {name: defined(tree) for name, tree in trees()}
+        there = dict(trees())
         for module, entries in INTERFACE.items():
             for entry in entries:
-                node = there[module + ".py"][entry.partition("(")[0]]
-                shown = head(node) if "(" in entry else entry
-                self.assertEqual(shown, entry, module)
+                node = find(there[module + ".py"], entry)
+                self.assertEqual(shown(node, entry), entry.rpartition(".")[2], module)
+
+    def test_methods_are_no_attributes(self):
+        all_methods = {name for _, tree in trees() for name in methods(tree)}
+        all_values = {item.targets[0].id for _, node in nodes(ast.ClassDef) for item in node.body
+                      if isinstance(item, ast.Assign)}
+        for name, tree in trees():
+            self.assertFalse(stored(tree) & (all_methods | all_values), name)
+        self.assertFalse(all_methods & all_values)
+
+    def test_locals_hide_nothing(self):
+        for name, tree in trees():
+            taken = {alias.name for node in tree.body if isinstance(node, ast.ImportFrom) for alias in node.names}
+            taken |= {node.name for node in tree.body if isinstance(node, ast.ClassDef)}
+            for node in ast.walk(tree):
+                if isinstance(node, ast.FunctionDef):
+                    self.assertFalse(locals_of(node) & taken, (name, node.name))
+
+    def test_generators(self):
+        functions = [node for _, node in nodes(ast.FunctionDef)]
+        names = [node.name for node in functions]
+        for node in functions:
+            if any(isinstance(inner, (ast.Yield, ast.YieldFrom)) for inner in ast.walk(node)):
+                self.assertEqual(names.count(node.name), 1, node.name)
 
 
 class StatementsTest(unittest.TestCase):
@@ -194,6 +252,20 @@ class StatementsTest(unittest.TestCase):
             if isinstance(node.op, ast.Pow):
                 self.assertIsInstance(node.right, ast.Constant, name)
                 self.assertIn(node.right.value, range(65), name)
+
+    def test_lists_instead_of_generators(self):
+        for name, node in nodes(ast.Call):
+            if isinstance(node.func, ast.Name) and node.func.id in LISTED:
+                for argument in node.args:
+                    self.assertNotIsInstance(argument, ast.GeneratorExp, (name, node.lineno))
+            if isinstance(node.func, ast.Attribute):
+                self.assertNotEqual(node.func.attr, "sort", (name, node.lineno))
+
+    def test_class_values(self):
+        for name, node in nodes(ast.ClassDef):
+            for item in node.body:
+                if isinstance(item, ast.Assign):
+                    self.assertIsInstance(item.value, ast.Constant, (name, node.name))
 
     def test_is(self):
         for name, node in nodes(ast.Compare):
