@@ -146,7 +146,8 @@ class FormsTest(ErrorsTest):
         self.assertEqual(Scheme(players, statements).statements(), list(statements))
 
     def test_words(self):
-        wrong = ["", "Cut", "cuts", " cut", "cut ", "use", "players", "else", "end", "halve", 0, None, ("cut",), ["cut"]]
+        wrong = ["", "Cut", "cuts", " cut", "cut ", "use", "players", "else", "end", "halve", 0, None,
+                 ("cut",), ["cut"]]
         for word in wrong:
             for rest in ((), ("whole",), ("whole", 1), ("whole", 1, (1, 2), "a", "b"), (("a", "b"), "c")):
                 self.wrong((word, *rest))
