@@ -4,6 +4,9 @@ from graincourse.errors import InvalidFraction
 
 MOST_DIGITS = 30
 
+ZERO = (0, 1)
+ONE = (1, 1)
+
 
 def common_divisor(one, other):
     """Return the greatest common divisor of two integers, 0 for two zeros."""

@@ -98,3 +98,61 @@ def random_cases(many, seed):
         players = rng.randint(1, 5)
         cases.append((players, random_statements(rng, players, ["whole"], rng.randint(0, 12))))
     return cases
+
+
+def pick(player, pieces, which="greatest"):
+    """A pick whose new names are the old ones, the picked piece first."""
+    return ("pick", player, which, tuple(pieces), tuple(pieces))
+
+
+# Two players cut and pick, each parts the own half in three, and the third player picks from both: a third for all.
+LONE_TEXT = ("players 3; cut whole by 1 at 1/2 into a, b; pick greatest of a, b by 2 as b, a; "
+             "cut a by 1 at 1/3 into c, d; cut d by 1 at 1/2 into d, e; "
+             "cut b by 2 at 1/3 into f, g; cut g by 2 at 1/2 into g, h; "
+             "pick greatest of c, d, e by 3 as x, d, e; pick greatest of f, g, h by 3 as y, g, h; "
+             "join x, y as z; join d, e as a; join g, h as b; give z to 3; give a to 1; give b to 2")
+
+# As much of a division without envy between three players as leaves the trimmings to nobody.
+NO_ENVY = [
+    ("cut", "whole", 1, (1, 3), "a", "b"),
+    ("cut", "b", 1, (1, 2), "b", "c"),
+    ("pick", 2, "greatest", ("a", "b", "c"), ("x", "b", "c")),
+    ("pick", 2, "greatest", ("b", "c"), ("y", "z")),
+    ("trim", "x", "y", 2, "x", "t"),
+    ("drop", "t"),
+    ("ask", 3, "x", (1, 1), "y", (
+        ("ask", 3, "x", (1, 1), "z", (
+            ("give", "x", 3), pick(2, ("y", "z")), ("give", "y", 2), ("give", "z", 1),
+        ), (
+            ("give", "z", 3), ("give", "x", 2), ("give", "y", 1),
+        )),
+    ), (
+        pick(3, ("y", "z")), ("give", "y", 3), ("give", "x", 2), ("give", "z", 1),
+    )),
+]
+
+# Four pieces for four players, who pick one after the other.
+FOUR_TEXT = ("players 4; cut whole by 1 at 1/2 into a, b; cut a by 1 at 1/2 into a, c; cut b by 1 at 1/2 into b, d; "
+             "pick greatest of a, b, c, d by 2 as x, a, b, c; give x to 2; "
+             "pick greatest of a, b, c by 3 as x, a, b; give x to 3; pick greatest of a, b by 4 as x, a; "
+             "give x to 4; give a to 1")
+
+# 200 branches for five players, with each kind of statement that has more than one answer but the trim.
+MANY = [
+    ("cut", "whole", 1, (1, 2), "a", "b"),
+    ("cut", "a", 2, (1, 3), "a", "c"),
+    ("cut", "b", 3, (2, 5), "b", "d"),
+    ("ask", 4, "a", (1, 2), "b",
+        (pick(5, "abcd"), pick(4, "abcd")), (pick(3, "abc", "least"), pick(5, "bcd"))),
+    pick(1, "ab"),
+    pick(2, "bc", "least"),
+    pick(4, "cd"),
+    ("give", "a", 1),
+    ("cut", "b", 5, (1, 3), "b", "e"),
+    ("give", "b", 2),
+    ("give", "c", 4),
+    ("join", ("d", "e"), "d"),
+    ("cut", "d", 2, (1, 2), "e", "f"),
+    ("give", "e", 3),
+    ("give", "f", 5),
+]

@@ -59,6 +59,19 @@ INTERFACE = {
         "Scheme.__len__(self)", "Scheme.__eq__(self, other)", "Scheme.__repr__(self)", "own_weights(scheme, player)",
         "lead_weights(scheme, one, other)"],
     "tableau": ["least(equations, comparisons, weights)"],
+    "sheets": [
+        "Sheet(equal, above)", "Sheet.numbers(self)", "Sheet.fits(self, branch, player, known=())",
+        "Sheet.totals(self, branch, player, known=())", "Bound(equal, above, value)", "Bound.numbers(self)",
+        "Bound.holds(self, branch, player, weights, *, known=())", "Shut(equal, above, player)", "Shut.numbers(self)",
+        "Shut.holds(self, branch, *, known=())"],
+    "grains": [
+        "split_flow(branch, point)", "is_way(branch, way)", "worths_of(branch, grains, player)",
+        "keeps(branch, player, point)", "are_grains(branch, players, grains)"],
+    "sure": [
+        "Answer", "sure(scheme, player, weights=None, *, honest=False)", "lead(scheme, one, other, *, honest=False)",
+        "span(scheme, player, *, honest=False)",
+        "check_sheets(scheme, player, weights, value, sheets, *, honest=False)",
+        "check_grains(scheme, player, weights, value, place, grains, *, honest=False)"],
 }
 # These take a list instead of a generator where a class has an __eq__ of its own.
 LISTED = ("all", "any", "max", "min", "sorted", "sum")
