@@ -119,8 +119,8 @@ def is_use(statement, players):
     return has_length(statement) and statement[0] == "use" and fits_use(statement, players)
 
 
-def check_forms(players, statements):
-    """Raise the error of the first statement without its form, or of too many statements."""
+def check_forms(players, statements, uses=False):
+    """Raise the error of the first statement without its form, or of too many; uses may be allowed."""
     waiting = list(statements)[::-1]
     place = 0
     while waiting:
@@ -128,7 +128,7 @@ def check_forms(players, statements):
         if place == MOST_STATEMENTS:
             raise TooLarge(MOST_STATEMENTS)
         statement = waiting.pop()
-        if not has_form(statement, players):
+        if not has_form(statement, players) and not (uses and is_use(statement, players)):
             raise InvalidStatement(place)
         if statement[0] == "ask":
             inside = [*statement[5], *statement[6]]

@@ -31,3 +31,9 @@ def least_place(sheets):
         if isinstance(sheet, Bound) and (found is None or order(sheet.value, sheets[found].value) < 0):
             found = place
     return found
+
+
+def least_value(listed, player, weights, keepers, known=()):
+    """Return the least weighted worth on the branches that are listed, not all of which may be shut."""
+    sheets = [look_at(branch, player, weights, keepers, known)[0] for branch in listed]
+    return sheets[least_place(sheets)].value
