@@ -3,7 +3,7 @@
 from graincourse.courses import first_course, fits_answer, next_course, values_on, worth_of
 from graincourse.errors import BrokenRule, InvalidAnswer, InvalidWorths, NothingExpected, NothingLeft, UnknownPiece
 from graincourse.grains import add_up, are_grains, are_worths
-from graincourse.looks import least_value
+from graincourse.looks import least_behind, least_value
 from graincourse.ratios import total
 from graincourse.schemes import own_weights
 from graincourse.sure import check_player, keepers_of
@@ -185,5 +185,5 @@ class Run:
         check_player(self.plan, player)
         course = self.courses[-1]
         check_unbroken(course, [player])
-        known = [(piece, worth_of(amounts, self.rows, player)) for piece, amounts in enumerate(course.amounts)]
-        return least_value(self.branches_left(), player, own_weights(self.plan, player), [player], known)
+        point = [worth_of(amounts, self.rows, player) for amounts in course.amounts]
+        return least_behind(self.branches_left(), player, own_weights(self.plan, player), point)
