@@ -43,13 +43,12 @@ class Run:
         self.courses = [first_course(scheme.statements(), len(worths))]
         # The answers that can be given again with the courses behind them, the next one last.
         self.undone = []
-        self.kept = ()
         self.set_keepers(keepers)
 
     @classmethod
     def replay(cls, scheme, place, grains, *, keepers=()):
         """Return the finished run on one sort for each grain, which follows a branch."""
-        if not 0 <= place < len(scheme) or len(grains) > MOST_SORTS:
+        if not 0 <= place < len(scheme):
             raise InvalidWorths()
         branch = list(scheme.branches())[place]
         if not are_grains(branch, scheme.players, grains):

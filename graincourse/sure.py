@@ -51,7 +51,6 @@ def joint_grains(branch, points):
 
 def sure(scheme, player, weights=None, *, honest=False):
     """Return the answer that tells the least weighted worth of a player who keeps the rules."""
-    check_player(scheme, player)
     asked = own_weights(scheme, player) if weights is None else weights
     check_question(scheme, player, asked)
     keepers = keepers_of(scheme, player, honest)
@@ -74,7 +73,6 @@ def lead(scheme, one, other, *, honest=False):
 
 def span(scheme, player, *, honest=False):
     """Return the pair of the least and the greatest share of a player who keeps the rules."""
-    check_player(scheme, player)
     own = own_weights(scheme, player)
     # The greatest share is the least one with the other sign.
     turned = tuple([-weight for weight in own])

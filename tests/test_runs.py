@@ -178,7 +178,7 @@ class AnswersTest(CheckedTest):
         run = Run(HALF, TWO)
         for value in (0, 1, "yes", "short", "long", "", (), ((1, 2),), ((1, 2), (1, 2), (1, 2)), ((1, 2), (2, 4)),
                       ((1, 2), (-1, 2)), ((3, 2), (1, 2)), ((1, 0), (1, 2)), ((0, 0), (1, 2)), ((1, 2), (1, -2)),
-                      ((10 ** 29 + 1, 10 ** 29), (0, 1))):
+                      ((10 ** 29 + 1, 10 ** 29), (0, 1)), [(1, 2), (1, 2)], ([1, 2], (1, 2))):
             self.raises(InvalidAnswer, run.answer, value)
             self.compare(run, HALF, TWO, [])
         run.answer(((0, 1), (1, 1)))

@@ -134,7 +134,8 @@ class DefineTest(CheckedTest):
                       ("use", "b", (2,), "whole"), ("use", "b", (1, 1), "whole"), ("use", "b", (0,), "whole"),
                       ("use", "B", (1,), "whole"), ("use", "", (1,), "whole"), ("use", "b.1", (1,), "whole"),
                       ("use", "abcdefghi", (1,), "whole"), ("use", "b", (1,), "Whole"), ("use", "b", (1,), ""),
-                      ("use", "b", (1,), "a.0"), ("use", "b", 1, "whole")]:
+                      ("use", "b", (1,), "a.0"), ("use", "b", 1, "whole"),
+                      ("use", 1, (1,), "whole"), ("use", "b", ("a",), "whole"), ("use", "b", (1,), 1)]:
             for statements, place in [([wrong], 0), ([TIE, wrong], 1), ([use("b"), TIE, wrong, ("oh",)], 2),
                                       ([ask([TIE, wrong], [])], 2), ([ask([TIE], [use("b"), wrong])], 3),
                                       ([("drop", "a.1"), wrong], 1), ([use("nobody"), use("a"), wrong], 2)]:
@@ -467,7 +468,8 @@ class BatchTest(CheckedTest):
         before = state_of(shelf)
         for wrong in [(), ("drop",), ("drop", "a", "b"), ("define", "b", 1), ("define", "b", 1, (), ()), ("define",),
                       ("undo",), ("remove", "a"), ("Drop", "a"), ("", "a"), (1, "a"), (None, "b", 1, ()),
-                      ("define_text", "b", "players 1"), ("batch",)]:
+                      ("define_text", "b", "players 1"), ("batch",), (("drop",), "a"), ([], "a"),
+                      ["drop", "a"]]:
             for commands, index in [([wrong], 0), ([("drop", "x"), wrong], 1), ([wrong, ("drop", "x"), ()], 0),
                                     ([("drop", "a"), ("define", "A", 0, ("oh",)), wrong, wrong], 2)]:
                 self.raises(InvalidCommand, index, shelf.batch, *commands)

@@ -317,6 +317,8 @@ class CheckSheetsTest(unittest.TestCase):
         self.assertFalse(self.check(self.honest.sheets, (0, 1)))
         self.assertFalse(self.check(self.honest.sheets, (-99, 1)))
         self.assertTrue(self.check(self.plain.sheets, (0, 1), honest=True))
+        self.assertFalse(check_sheets(CLOSED, 1, self.weights, (0, 1), self.honest.sheets))
+        self.assertTrue(check_sheets(CLOSED, 1, self.weights, (0, 1), self.plain.sheets))
 
     def test_order_and_number(self):
         for value in ((0, 1), (-99, 1)):
@@ -432,6 +434,7 @@ class CheckGrainsTest(unittest.TestCase):
     def test_modes(self):
         worst = sure(ASK, 1)
         self.assertEqual([self.check(worst, ASK), self.check(worst, ASK, honest=True)], [True, False])
+        self.assertTrue(check_grains(ASK, 1, (0, 1, 0), worst.value, worst.place, worst.grains))
 
     def test_other_player(self):
         grains = [((0, 1), ((1, 2), (2, 3))), ((0, 2), ((1, 2), (1, 3)))]
