@@ -2,6 +2,8 @@
 
 import random
 
+from graincourse.schemes import Scheme
+
 HALF_TEXT = ("players 2; cut whole by 1 at 1/2 into a, b; pick greatest of a, b by 2 as x, y; "
              "give x to 2; give y to 1")
 ASK_TEXT = ("players 2; cut whole by 2 at 1/3 into p, q; ask 1 if p is 1 of q; trim p to q by 2 into a, b; "
@@ -98,6 +100,17 @@ def random_cases(many, seed):
         players = rng.randint(1, 5)
         cases.append((players, random_statements(rng, players, ["whole"], rng.randint(0, 12))))
     return cases
+
+
+def valid_schemes(many, seed, most):
+    """The schemes among random cases that have no more than so many branches."""
+    schemes = []
+    for players, statements in random_cases(many, seed):
+        try:
+            schemes.append(Scheme(players, statements))
+        except (ValueError, LookupError):
+            continue
+    return [scheme for scheme in schemes if len(scheme) <= most]
 
 
 def pick(player, pieces, which="greatest"):

@@ -9,7 +9,7 @@ from graincourse.ratios import is_fraction
 from graincourse.schemes import Scheme
 from graincourse.tableau import least
 from model import all_followers
-from samples import ALL_KINDS, ASK_TEXT, HALF_TEXT, LONE_TEXT, MANY, random_cases
+from samples import ALL_KINDS, ASK_TEXT, HALF_TEXT, LONE_TEXT, MANY, valid_schemes
 
 HALF = Scheme.read(HALF_TEXT)
 ASK = Scheme.read(ASK_TEXT)
@@ -26,16 +26,6 @@ def branch_of(scheme, index=0):
 
 def pairs_of(scheme):
     return list(zip(scheme.branches(), all_followers(scheme.statements())))
-
-
-def valid_schemes(many, seed, most):
-    schemes = []
-    for players, statements in random_cases(many, seed):
-        try:
-            schemes.append(Scheme(players, statements))
-        except (ValueError, LookupError):
-            continue
-    return [scheme for scheme in schemes if len(scheme) <= most]
 
 
 def as_pair(value):

@@ -13,7 +13,7 @@ from graincourse.tableau import least
 from model import all_followers
 from runmodel import Carried, Wrong
 from samples import (
-    ALL_KINDS, ASK_TEXT, FOUR_TEXT, HALF_TEXT, LONE_TEXT, MANY, NO_ENVY, nested_asks, random_cases)
+    ALL_KINDS, ASK_TEXT, FOUR_TEXT, HALF_TEXT, LONE_TEXT, MANY, NO_ENVY, nested_asks, valid_schemes)
 
 HALF = Scheme.read(HALF_TEXT)
 ASK = Scheme.read(ASK_TEXT)
@@ -32,16 +32,6 @@ def random_sorts(rng, many, players):
         numbers[rng.randrange(many)] += 1
         columns.append([Fraction(number, sum(numbers)).as_integer_ratio() for number in numbers])
     return list(zip(*columns))
-
-
-def valid_schemes(many, seed, most):
-    schemes = []
-    for players, statements in random_cases(many, seed):
-        try:
-            schemes.append(Scheme(players, statements))
-        except (ValueError, LookupError):
-            continue
-    return [scheme for scheme in schemes if len(scheme) <= most]
 
 
 def pair(value):

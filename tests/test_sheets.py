@@ -7,7 +7,7 @@ from graincourse.schemes import Scheme, lead_weights, own_weights
 from graincourse.sheets import Bound, Sheet, Shut
 from graincourse.tableau import least
 from model import all_followers
-from samples import ALL_KINDS, ASK_TEXT, HALF_TEXT, random_cases
+from samples import ALL_KINDS, ASK_TEXT, HALF_TEXT, valid_schemes
 
 HALF = Scheme.read(HALF_TEXT)
 ASK = Scheme.read(ASK_TEXT)
@@ -285,15 +285,9 @@ class ShutTest(unittest.TestCase):
 class RandomTest(unittest.TestCase):
     def test_sheets_of_the_tableau(self):
         bounds = shuts = 0
-        for players, statements in random_cases(120, seed=41):
-            try:
-                scheme = Scheme(players, statements)
-            except (ValueError, LookupError):
-                continue
-            if len(scheme) > 12:
-                continue
-            for branch, follower in zip(scheme.branches(), all_followers(statements)):
-                for player in range(1, players + 1):
+        for scheme in valid_schemes(120, 41, 12):
+            for branch, follower in zip(scheme.branches(), all_followers(scheme.statements())):
+                for player in range(1, scheme.players + 1):
                     weights = lead_weights(scheme, player, 1) if player > 1 else own_weights(scheme, 1)
                     sheet = sheet_of(branch, player, weights)
                     if isinstance(sheet, Bound):

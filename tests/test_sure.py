@@ -10,7 +10,7 @@ from graincourse.sheets import Bound, Sheet, Shut
 from graincourse.sure import Answer, check_grains, check_sheets, lead, span, sure
 from model import all_followers
 from samples import (
-    ALL_KINDS, ASK_TEXT, FOUR_TEXT, HALF_TEXT, LONE_TEXT, MANY, NO_ENVY, nested_asks, pick, random_cases)
+    ALL_KINDS, ASK_TEXT, FOUR_TEXT, HALF_TEXT, LONE_TEXT, MANY, NO_ENVY, nested_asks, pick, valid_schemes)
 
 HALF = Scheme.read(HALF_TEXT)
 ASK = Scheme.read(ASK_TEXT)
@@ -477,15 +477,9 @@ class LargeTest(CheckedTest):
 
     def test_random(self):
         closed = 0
-        for number, (players, statements) in enumerate(random_cases(150, seed=59)):
-            try:
-                scheme = Scheme(players, statements)
-            except (ValueError, LookupError):
-                continue
-            if len(scheme) > 12:
-                continue
-            for player in range(1, players + 1):
-                weights = [(number * holder * 7) % 11 - 5 for holder in range(players + 1)]
+        for number, scheme in enumerate(valid_schemes(150, 59, 12)):
+            for player in range(1, scheme.players + 1):
+                weights = [(number * holder * 7) % 11 - 5 for holder in range(scheme.players + 1)]
                 plain, honest = [[self.check(scheme, player, each, mode) for each in (None, weights)]
                                  for mode in (False, True)]
                 self.assertTrue(honest[0] >= plain[0] and honest[1] >= plain[1])
