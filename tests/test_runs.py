@@ -7,7 +7,7 @@ from graincourse.errors import (
     BrokenRule, InvalidAnswer, InvalidWorths, NothingExpected, NothingLeft, UnknownPiece, UnknownPlayer)
 from graincourse.ratios import is_fraction
 from graincourse.runs import MOST_SORTS, Run
-from graincourse.schemes import Scheme, own_weights
+from graincourse.schemes import Scheme
 from graincourse.sure import sure
 from graincourse.tableau import least
 from model import all_followers
